@@ -14,13 +14,14 @@ type kind int
 const (
 	free kind = iota
 	superblock
+	large
 )
 
-// frame: heap, class and sizes are those of a superblock.
+// frame: heap and class are those of a superblock.
 type frame struct {
 	kind        kind
 	heap, class int
-	sizes       [mostSlots]int // what was asked for, slot by slot; 0: the slot is free
+	sizes       [mostSlots]int // what was asked for, slot by slot; 0: the slot is free. A large block's stands first in its first frame
 }
 
 // Memory is all that a tithe keeps.
@@ -40,6 +41,11 @@ func New(c api.Config) *Memory {
 	}
 }
 
+// Heaps is how many heaps there are beside the one of all.
+func (m *Memory) Heaps() int {
+	return m.heaps
+}
+
 func slotSize(class int) int {
 	return leastSlot << class
 }
@@ -56,8 +62,17 @@ func classOf(size int) int {
 	return class
 }
 
+// framesFor counts a frame that is filled in part as a whole one.
+func framesFor(size int) int {
+	return (size + api.FrameSize - 1) / api.FrameSize
+}
+
 func (m *Memory) heapOf(worker int) int {
 	return 1 + worker%m.heaps
+}
+
+func (f frame) taken() bool {
+	return f.kind != free
 }
 
 func (f frame) usedSlots() int {

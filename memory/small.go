@@ -5,8 +5,7 @@ import (
 	"tithe/pick"
 )
 
-// TakeSlot gives the address of a new small block, or false if there is no room for it.
-func (m *Memory) TakeSlot(worker, size int) (int, bool) {
+func (m *Memory) takeSlot(worker, size int) (int, bool) {
 	class := classOf(size)
 	i, found := m.superblockFor(m.heapOf(worker), class)
 	if !found {
@@ -17,9 +16,7 @@ func (m *Memory) TakeSlot(worker, size int) (int, bool) {
 		return 0, false
 	}
 	m.frames[i].sizes[slot] = size
-	address := i*api.FrameSize + slot*slotSize(class)
-	clear(m.bytes[address : address+size])
-	return address, true
+	return i*api.FrameSize + slot*slotSize(class), true
 }
 
 // superblockFor gives a superblock of the heap that has room, and makes it the heap's if it was not.
@@ -38,9 +35,7 @@ func (m *Memory) superblockFor(heap, class int) (int, bool) {
 	return i, found
 }
 
-// FreeSlot panics if the address is no block's.
-func (m *Memory) FreeSlot(address int) {
-	m.mustFind(func(b block) bool { return b.address == address })
+func (m *Memory) releaseSlot(address int) {
 	f := &m.frames[address/api.FrameSize]
 	heap, class := f.heap, f.class
 	f.sizes[address%api.FrameSize/slotSize(class)] = 0
@@ -51,24 +46,8 @@ func (m *Memory) FreeSlot(address int) {
 }
 
 func (m *Memory) holdsTooMuch(heap, class int) bool {
-	held, used := m.held(heap, class), m.used(heap, class)
-	return held > used+api.FrameSize*m.slack && 2*used < held
-}
-
-func (m *Memory) held(heap, class int) int {
-	held := 0
-	for range m.superblocks(heap, class) {
-		held += api.FrameSize
-	}
-	return held
-}
-
-func (m *Memory) used(heap, class int) int {
-	used := 0
-	for i := range m.superblocks(heap, class) {
-		used += m.frames[i].usedSlots() * slotSize(class)
-	}
-	return used
+	s := m.Stats(heap, class)
+	return s.Held > s.Used+api.FrameSize*m.slack && 2*s.Used < s.Held
 }
 
 func (m *Memory) giveEmptiestAway(heap, class int) {

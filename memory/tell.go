@@ -2,6 +2,7 @@ package memory
 
 import (
 	"iter"
+	"slices"
 
 	"tithe/api"
 )
@@ -21,6 +22,18 @@ func (m *Memory) freeFrames() iter.Seq[int] {
 	return func(yield func(int) bool) {
 		for i := range m.frames {
 			if m.frames[i].kind == free && !yield(i) {
+				return
+			}
+		}
+	}
+}
+
+// freeRuns tells the first ones of so many free frames, one behind the other.
+func (m *Memory) freeRuns(count int) iter.Seq[int] {
+	return func(yield func(int) bool) {
+		for i := range len(m.frames) - count + 1 {
+			together := !slices.ContainsFunc(m.frames[i:i+count], frame.taken)
+			if together && !yield(i) {
 				return
 			}
 		}

@@ -2,13 +2,20 @@ package tithe
 
 import (
 	"fmt"
+	"maps"
 	"math/rand"
+	"slices"
 	"testing"
 
 	"tithe/api"
 )
 
-// place: a superblock of the model. One of class -1 is a free frame.
+const (
+	freePlace  = -1
+	largePlace = -2
+)
+
+// place: what a frame of the model is: a superblock, or, by its class, free or part of a large block.
 type place struct {
 	heap, class int
 }
@@ -25,7 +32,7 @@ type model struct {
 func newModel(c api.Config) *model {
 	m := &model{c: c, sizes: map[int]int{}, bytes: map[int]int{}}
 	for range c.Frames {
-		m.places = append(m.places, place{class: -1})
+		m.places = append(m.places, place{class: freePlace})
 	}
 	return m
 }
@@ -65,7 +72,26 @@ func (m *model) malloc(worker, size int) (int, api.Errno) {
 	if worker < 0 || worker > 1000 || size < 1 || size > 256 {
 		return 0, api.ErrArg
 	}
-	heap, class := 1+worker%m.c.Heaps, 2
+	a := -1
+	if size > 32 {
+		a = m.large(size)
+	} else {
+		a = m.small(1+worker%m.c.Heaps, size)
+	}
+	if a < 0 {
+		return 0, api.ErrFull
+	}
+	m.sizes[a] = size
+	for b := a; b < a+size; b++ {
+		m.bytes[b] = 0
+	}
+	m.noteMost()
+	return a, api.OK
+}
+
+// small: where a slot is used from then on, or below 0.
+func (m *model) small(heap, size int) int {
+	class := 2
 	if size <= 8 {
 		class = 0
 	} else if size <= 16 {
@@ -76,24 +102,52 @@ func (m *model) malloc(worker, size int) (int, api.Errno) {
 		i = m.fullest(0, class)
 	}
 	for f := 0; i < 0 && f < len(m.places); f++ {
-		if m.places[f].class < 0 {
+		if m.places[f].class == freePlace {
 			i = f
 		}
 	}
 	if i < 0 {
-		return 0, api.ErrFull
+		return i
 	}
 	m.places[i] = place{heap, class}
 	a := i * 64
 	for m.sizes[a] > 0 {
 		a += 8 << class
 	}
-	m.sizes[a] = size
-	for b := a; b < a+size; b++ {
-		m.bytes[b] = 0
+	return a
+}
+
+// large: where frames are taken from then on, or below 0.
+func (m *model) large(size int) int {
+	together := 0
+	for i, p := range m.places {
+		together++
+		if p.class != freePlace {
+			together = 0
+		}
+		if 64*together >= size {
+			m.mark(i+1-together, size, largePlace)
+			return 64 * (i + 1 - together)
+		}
 	}
-	m.noteMost()
-	return a, api.OK
+	return -1
+}
+
+// mark says what the frames of a large block are.
+func (m *model) mark(first, size, class int) {
+	for i := first; 64*(i-first) < size; i++ {
+		m.places[i] = place{class: class}
+	}
+}
+
+func (m *model) freeFrames() int {
+	count := 0
+	for _, p := range m.places {
+		if p.class == freePlace {
+			count++
+		}
+	}
+	return count
 }
 
 func (m *model) noteMost() {
@@ -116,6 +170,10 @@ func (m *model) free(a int) api.Errno {
 	for b := a; b < a+size; b++ {
 		delete(m.bytes, b)
 	}
+	if size > 32 {
+		m.mark(a/64, size, freePlace)
+		return api.OK
+	}
 	p := m.places[a/64]
 	held, used := m.charged(p.heap, p.class)
 	if p.heap > 0 && held > used+64*m.c.Slack && used*2 < held {
@@ -129,7 +187,7 @@ func (m *model) free(a int) api.Errno {
 	}
 	for i, q := range m.places {
 		if q.class >= 0 && q.heap == 0 && m.blocksIn(i) == 0 {
-			m.places[i] = place{class: -1}
+			m.places[i] = place{class: freePlace}
 		}
 	}
 	return api.OK
@@ -160,14 +218,18 @@ func step(r *rand.Rand, x *Tithe, m *model) string {
 	switch r.Intn(8) {
 	case 0, 1, 2:
 		worker, size := r.Intn(1003)-1, r.Intn(34)-1
-		size = min(size, 32)
+		if r.Intn(4) == 0 {
+			size = 30 + r.Intn(230)
+		}
 		got, e := x.Malloc(worker, size)
 		want, f := m.malloc(worker, size)
 		if got != want || e != f {
 			return fmt.Sprintf("Malloc(%d, %d) = %d, %d, want %d, %d", worker, size, got, e, want, f)
 		}
 	case 3, 4, 5:
-		if r.Intn(8) > 0 {
+		if there := slices.Sorted(maps.Keys(m.sizes)); len(there) > 0 && r.Intn(2) == 0 {
+			a = there[r.Intn(len(there))]
+		} else if r.Intn(8) > 0 {
 			a = a &^ 7
 		}
 		e, f := x.Free(a), m.free(a)
@@ -190,6 +252,23 @@ func step(r *rand.Rand, x *Tithe, m *model) string {
 	return ""
 }
 
+// sameStats tells whether the program tells of each heap and class, and of the free frames, what the model does.
+func (m *model) sameStats(x *Tithe) string {
+	for heap := range m.c.Heaps + 1 {
+		for class := range api.Classes {
+			held, used := m.charged(heap, class)
+			s, e := x.Stats(heap, class)
+			if s != (api.Stats{Held: held, Used: used}) || e != api.OK {
+				return fmt.Sprintf("Stats(%d, %d) = %+v, %d, want %d, %d", heap, class, s, e, held, used)
+			}
+		}
+	}
+	if got, want := x.FreeFrames(), m.freeFrames(); got != want {
+		return fmt.Sprintf("FreeFrames() = %d, want %d", got, want)
+	}
+	return ""
+}
+
 // bounds tells which of what follows from the promises (P9) does not hold.
 func (m *model) bounds() string {
 	for class := range api.Classes {
@@ -205,6 +284,18 @@ func (m *model) bounds() string {
 			return fmt.Sprintf("class %d: all hold %d, the most was %d", class, all, m.most[class])
 		}
 	}
+	for i, p := range m.places {
+		if p.class >= 0 && p.heap == 0 && m.blocksIn(i) == 0 {
+			return fmt.Sprintf("heap 0 has frame %d, which is empty", i)
+		}
+	}
+	sum := 0
+	for _, size := range m.sizes {
+		sum += size
+	}
+	if sum != len(m.bytes) {
+		return fmt.Sprintf("blocks of %d bytes have %d", sum, len(m.bytes))
+	}
 	return ""
 }
 
@@ -218,7 +309,7 @@ func (m *model) sameBytes(x *Tithe) string {
 	return ""
 }
 
-// TestAgainstTheModel: P3, P4 and P5 under long rows of calls, of every config; the rows are the same each time.
+// TestAgainstTheModel: P3 to P7, and P9, under long rows of calls, of every config; the rows are the same each time.
 func TestAgainstTheModel(t *testing.T) {
 	for heaps := 1; heaps <= api.MaxHeaps; heaps++ {
 		for frames := 1; frames <= api.MaxFrames; frames++ {
@@ -232,6 +323,9 @@ func TestAgainstTheModel(t *testing.T) {
 				r := rand.New(rand.NewSource(int64(heaps*1000 + frames*10 + slack)))
 				for i := range 600 {
 					wrong := step(r, x, m)
+					if wrong == "" {
+						wrong = m.sameStats(x)
+					}
 					if wrong == "" {
 						wrong = m.bounds()
 					}

@@ -24,11 +24,7 @@ func (t *Tithe) Malloc(worker int, size int) (int, api.Errno) {
 	if !within(worker, 0, api.MaxWorker) || !within(size, 1, api.MaxSize) {
 		return 0, api.ErrArg
 	}
-	if size > api.MaxSmall {
-		// Large blocks (P6) are not built yet: there is no room for them, rather than a block that is none.
-		return 0, api.ErrFull
-	}
-	address, found := t.inside().TakeSlot(worker, size)
+	address, found := t.inside().Take(worker, size)
 	if !found {
 		return 0, api.ErrFull
 	}
@@ -37,7 +33,7 @@ func (t *Tithe) Malloc(worker int, size int) (int, api.Errno) {
 
 // Free takes a block back (P4, P6).
 func (t *Tithe) Free(address int) api.Errno {
-	if !done(func() { t.inside().FreeSlot(address) }) {
+	if !done(func() { t.inside().Free(address) }) {
 		return api.ErrAddress
 	}
 	return api.OK
@@ -64,10 +60,16 @@ func (t *Tithe) Load(address int) (int, api.Errno) {
 }
 
 // Stats tells what a heap holds of a class (P7).
-func (t *Tithe) Stats(heap int, class int) (api.Stats, api.Errno) { return api.Stats{}, api.OK }
+func (t *Tithe) Stats(heap int, class int) (api.Stats, api.Errno) {
+	m := t.inside()
+	if !within(heap, 0, m.Heaps()) || !within(class, 0, api.Classes-1) {
+		return api.Stats{}, api.ErrArg
+	}
+	return m.Stats(heap, class), api.OK
+}
 
 // FreeFrames tells how many frames are free (P7).
-func (t *Tithe) FreeFrames() int { return 0 }
+func (t *Tithe) FreeFrames() int { return t.inside().FreeFrames() }
 
 // Live tells all blocks (P8).
 func (t *Tithe) Live() func(yield func(address int, size int) bool) {

@@ -71,6 +71,21 @@ func (d desk) loads(address, value int, want api.Errno) {
 	}
 }
 
+// holds asks what a heap holds and uses of a class.
+func (d desk) holds(heap, class, held, used int) {
+	d.t.Helper()
+	if s, e := d.Stats(heap, class); s != (api.Stats{Held: held, Used: used}) || e != api.OK {
+		d.t.Fatalf("Stats(%d, %d) = %+v, %d, want %d, %d, OK", heap, class, s, e, held, used)
+	}
+}
+
+func (d desk) hasFree(frames int) {
+	d.t.Helper()
+	if n := d.FreeFrames(); n != frames {
+		d.t.Fatalf("FreeFrames() = %d, want %d", n, frames)
+	}
+}
+
 func TestP3NewTakesJustTheConfigsInBounds(t *testing.T) {
 	numbers := []int{math.MinInt, -1, 0, 1, 2, 3, 4, 5, 15, 16, 17, math.MaxInt}
 	for _, h := range numbers {
@@ -94,6 +109,22 @@ func TestP3AllFramesAreFreeAtFirst(t *testing.T) {
 		}
 		d.refuses(0, 32, api.ErrFull)
 	}
+}
+
+func TestTheExampleOfTheDocument(t *testing.T) {
+	d := open(t, 2, 4, 1)
+	d.gives(0, 5, 0)
+	d.gives(0, 8, 8)
+	d.gives(1, 8, 64)
+	d.gives(2, 9, 128)
+	d.gives(0, 33, 192)
+	d.refuses(1, 20, api.ErrFull)
+	d.gives(1, 1, 72)
+	d.stores(4, 1, api.OK)
+	d.stores(5, 1, api.ErrFault)
+	d.freesNot(4)
+	d.frees(0)
+	d.gives(0, 1, 0)
 }
 
 func TestP3MallocRefusesWrongNumbers(t *testing.T) {
@@ -388,6 +419,274 @@ func TestP5WhatIsFreedFaults(t *testing.T) {
 	d.loads(8, 9, api.OK)
 }
 
+func TestP5TheBytesOfALargeBlockAreThoseAskedFor(t *testing.T) {
+	for size := api.MaxSmall + 1; size <= api.MaxSize; size++ {
+		d := open(t, 1, 6, 1)
+		d.gives(0, 32, 0)
+		d.gives(0, size, 64)
+		for a := 32; a < 6*64+2; a++ {
+			want, value := api.ErrFault, 0
+			if 64 <= a && a < 64+size {
+				want, value = api.OK, a%256
+			}
+			d.stores(a, a%256, want)
+			d.loads(a, value, want)
+		}
+	}
+}
+
+func TestP6TheSizeSaysHowManyFrames(t *testing.T) {
+	for size := api.MaxSmall + 1; size <= api.MaxSize; size++ {
+		frames := 1
+		for 64*frames < size {
+			frames++
+		}
+		d := open(t, 1, frames+1, 1)
+		d.gives(0, size, 0)
+		d.hasFree(1)
+		d.gives(0, 1, 64*frames)
+		if frames > 1 {
+			open(t, 1, frames-1, 1).refuses(0, size, api.ErrFull)
+		}
+	}
+}
+
+func TestP6NoFrameLeftIsErrFull(t *testing.T) {
+	for frames := 1; frames <= api.MaxFrames; frames++ {
+		d := open(t, 1, frames, 1)
+		for i := range frames {
+			d.gives(i, 33+i, 64*i)
+		}
+		d.hasFree(0)
+		d.refuses(0, 33, api.ErrFull)
+		d.refuses(0, 256, api.ErrFull)
+		d.refuses(0, 1, api.ErrFull)
+		d.refuses(0, 257, api.ErrArg) // named ahead of ErrFull
+		d.refuses(-1, 33, api.ErrArg)
+		d.refuses(1001, 33, api.ErrArg)
+	}
+}
+
+func TestP6TheFramesAreOneBehindTheOther(t *testing.T) {
+	d := open(t, 1, 9, 1)
+	d.gives(0, 64, 0, 64, 128, 192, 256, 320, 384, 448, 512)
+	d.frees(0, 128, 192, 320, 384, 448) // free: 0, 2 and 3, 5 to 7
+	d.refuses(0, 193, api.ErrFull)      // six are free, four together are not
+	d.hasFree(6)
+	d.gives(0, 129, 320)
+	d.refuses(0, 129, api.ErrFull)
+	d.gives(0, 65, 128)
+	d.refuses(0, 65, api.ErrFull)
+	d.gives(0, 33, 0)
+	d.hasFree(0)
+}
+
+func TestP6TheLowestGiveNotTheTightest(t *testing.T) {
+	d := open(t, 1, 8, 1)
+	d.gives(0, 192, 0)
+	d.gives(0, 64, 192, 256, 320)
+	d.frees(0, 256) // free: 0 to 2, 4, 6 and 7
+	d.gives(0, 40, 0)
+	d.gives(0, 100, 64)
+	d.gives(0, 100, 384)
+	d.gives(0, 40, 256)
+	d.refuses(0, 40, api.ErrFull)
+}
+
+func TestP6FramesDoNotGoAroundTheEnd(t *testing.T) {
+	d := open(t, 1, 4, 1)
+	d.gives(0, 64, 0, 64, 128, 192)
+	d.frees(0, 192)
+	d.refuses(0, 65, api.ErrFull)
+	d.frees(64)
+	d.gives(0, 65, 0)
+}
+
+func TestP6AllFramesOfAFreedOneAreFree(t *testing.T) {
+	for size := api.MaxSmall + 1; size <= api.MaxSize; size++ {
+		d := open(t, 1, 6, 1)
+		d.gives(0, 33, 0)
+		d.gives(0, size, 64)
+		last := 64 + (size+63)/64*64
+		d.gives(0, 64, last)
+		d.frees(64)
+		d.hasFree(4)
+		d.freesNot(64)
+		d.loads(64, 0, api.ErrFault)
+		for a := 64; a < last; a += 64 {
+			d.gives(0, 50, a)
+		}
+		d.loads(32, 0, api.OK) // its neighbours stayed
+		d.loads(last+63, 0, api.OK)
+	}
+}
+
+func TestP6WithinALargeBlockIsNoAddress(t *testing.T) {
+	d := open(t, 1, 6, 1)
+	d.gives(0, 33, 0)
+	d.gives(0, 200, 64)
+	for a := -1; a < 6*64+1; a++ {
+		if a != 0 && a != 64 {
+			d.freesNot(a)
+		}
+	}
+	d.hasFree(1)
+	d.frees(64, 0)
+	d.hasFree(6)
+}
+
+func TestP6ALargeBlockIsOfNoHeap(t *testing.T) {
+	d := open(t, 2, 4, 1)
+	d.gives(1000, 33, 0)
+	d.gives(0, 128, 64)
+	for heap := range 3 {
+		for class := range api.Classes {
+			d.holds(heap, class, 0, 0)
+		}
+	}
+	d.gives(0, 8, 192) // no slot of a large block's frame
+	d.frees(0, 64)     // and none of a heap's slack
+	d.hasFree(3)
+	d.holds(1, 0, 64, 8)
+}
+
+func TestP6GivenBytesAre0(t *testing.T) {
+	d := open(t, 1, 4, 1)
+	d.gives(0, 256, 0)
+	for a := range 256 {
+		d.loads(a, 0, api.OK)
+		d.stores(a, 255, api.OK)
+	}
+	d.frees(0)
+	d.gives(0, 32, 0, 32)
+	d.gives(0, 130, 64)
+	for a := range 64 + 130 {
+		d.loads(a, 0, api.OK)
+	}
+	d.frees(64)
+	d.gives(0, 192, 64) // its last bytes were not the block's before it
+	for a := 64; a < 256; a++ {
+		d.loads(a, 0, api.OK)
+	}
+}
+
+func TestP6AFrameOfASuperblockIsNotFreeTillItIsNone(t *testing.T) {
+	d := open(t, 1, 3, 1)
+	d.gives(0, 32, 0, 32, 64, 96)
+	d.frees(32, 64)               // half of heap 1 is used
+	d.refuses(0, 65, api.ErrFull) // a slot's room is none for a large one
+	d.frees(96)                   // frame 1 goes and is free
+	d.gives(0, 65, 64)            // frames 1 and 2
+	d.frees(0)                    // frame 0 is the slack
+	d.refuses(0, 33, api.ErrFull) // though it is empty
+	d.gives(0, 32, 0)
+}
+
+func TestP7StatsRefusesWrongNumbers(t *testing.T) {
+	for heaps := 1; heaps <= api.MaxHeaps; heaps++ {
+		d := open(t, heaps, 16, 1)
+		for worker := range heaps {
+			d.gives(worker, 8, 64*worker)
+		}
+		for _, heap := range []int{math.MinInt, -1, 0, 1, 2, 3, 4, 5, math.MaxInt} {
+			for _, class := range []int{math.MinInt, -1, 0, 1, 2, 3, math.MaxInt} {
+				want, e := api.Stats{}, api.ErrArg
+				if 0 <= heap && heap <= heaps && 0 <= class && class <= 2 {
+					e = api.OK
+					if heap > 0 && class == 0 {
+						want = api.Stats{Held: 64, Used: 8}
+					}
+				}
+				if s, f := d.Stats(heap, class); s != want || f != e {
+					t.Errorf("of %d heaps: Stats(%d, %d) = %+v, %d, want %+v, %d", heaps, heap, class, s, f, want, e)
+				}
+			}
+		}
+	}
+}
+
+func TestP7UsedIsWhatIsChargedNotWhatWasAskedFor(t *testing.T) {
+	d := open(t, 1, 4, 1)
+	d.gives(0, 1, 0, 8)
+	d.gives(0, 9, 64)
+	d.gives(0, 17, 128, 160, 192)
+	d.holds(1, 0, 64, 16)
+	d.holds(1, 1, 64, 16)
+	d.holds(1, 2, 128, 96)
+	d.holds(0, 2, 0, 0)
+}
+
+func TestP7StatsFollowsASuperblockFromHeapToHeap(t *testing.T) {
+	d := open(t, 2, 3, 1)
+	d.gives(0, 16, 0, 16, 32, 48, 64, 80, 96, 112)
+	d.frees(16, 32, 48, 80)
+	d.holds(1, 1, 128, 64)
+	d.frees(96) // frame 0 goes to heap 0
+	d.holds(1, 1, 64, 32)
+	d.holds(0, 1, 64, 16)
+	d.hasFree(1)
+	d.gives(1, 16, 16) // heap 2 takes it over
+	d.holds(0, 1, 0, 0)
+	d.holds(2, 1, 64, 32)
+	d.hasFree(1)
+}
+
+func TestP7FreeFramesCountsWhatIsNeitherSuperblockNorLarge(t *testing.T) {
+	for frames := 1; frames <= api.MaxFrames; frames++ {
+		open(t, 1, frames, 1).hasFree(frames)
+	}
+	d := open(t, 1, 9, 1)
+	d.gives(0, 8, 0)
+	d.hasFree(8)
+	d.gives(0, 8, 8)
+	d.hasFree(8)
+	d.gives(0, 32, 64)
+	d.gives(0, 256, 128)
+	d.hasFree(3)
+	d.refuses(0, 256, api.ErrFull)
+	d.hasFree(3)
+	d.frees(0, 8) // the slack
+	d.hasFree(3)
+	d.frees(128)
+	d.hasFree(7)
+}
+
+func TestP2WhatTellsChangesNothing(t *testing.T) {
+	d := open(t, 1, 4, 1)
+	d.gives(0, 8, 0)
+	d.gives(0, 100, 64)
+	d.stores(64, 5, api.OK)
+	for range 3 {
+		d.holds(1, 0, 64, 8)
+		d.holds(0, 0, 0, 0)
+		d.hasFree(1)
+		d.loads(64, 5, api.OK)
+		d.loads(0, 0, api.OK)
+		d.loads(8, 0, api.ErrFault)
+	}
+	d.gives(0, 8, 8)
+	d.gives(0, 33, 192)
+}
+
+func TestP1AnErrorChangesNothing(t *testing.T) {
+	d := open(t, 1, 4, 1)
+	d.gives(0, 33, 0)
+	d.gives(0, 8, 64)
+	d.stores(0, 7, api.OK)
+	for range 3 {
+		d.refuses(0, 129, api.ErrFull)
+		d.refuses(0, 257, api.ErrArg)
+		d.refuses(1001, 33, api.ErrArg)
+		d.freesNot(1, 32, 65, 128)
+		d.stores(33, 1, api.ErrFault)
+		d.stores(0, 256, api.ErrArg)
+		d.hasFree(2)
+		d.holds(1, 0, 64, 8)
+		d.loads(0, 7, api.OK)
+	}
+	d.gives(0, 128, 128)
+}
+
 func TestP2TithesAreApart(t *testing.T) {
 	d, other := open(t, 1, 1, 1), open(t, 1, 1, 1)
 	d.gives(0, 8, 0)
@@ -398,6 +697,9 @@ func TestP2TithesAreApart(t *testing.T) {
 	other.loads(0, 0, api.OK)
 	other.frees(0)
 	d.loads(0, 7, api.OK)
+	d.hasFree(0)
+	d.holds(1, 0, 64, 8)
+	other.holds(1, 0, 64, 0)
 }
 
 func TestP1ATitheThatIsNoneAnswersToo(t *testing.T) {
@@ -412,4 +714,10 @@ func TestP1ATitheThatIsNoneAnswersToo(t *testing.T) {
 	d.stores(0, 256, api.ErrArg)
 	d.stores(0, 1, api.ErrFault)
 	d.loads(0, 0, api.ErrFault)
+	d.refuses(0, 256, api.ErrFull)
+	d.holds(0, 0, 0, 0)
+	d.hasFree(0)
+	if s, e := none.Stats(-1, 0); s != (api.Stats{}) || e != api.ErrArg {
+		t.Errorf("Stats(-1, 0) of none = %+v, %d, want ErrArg", s, e)
+	}
 }
