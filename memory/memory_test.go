@@ -43,6 +43,21 @@ func TestIteratorsTellFromTheLowestOn(t *testing.T) {
 	tells(t, "blocks", m.blocks(), block{0, 5}, block{8, 8}, block{64, 30}, block{96, 17}, block{128, 32}, block{192, 16}, block{256, 64}, block{320, 65})
 }
 
+func TestLiveTellsACopyOfTheBlocks(t *testing.T) {
+	m := filled(t)
+	var got []block
+	for address, size := range m.Live() {
+		got = append(got, block{address, size})
+		m.Free(address)
+	}
+	if want := slices.Collect(filled(t).blocks()); !slices.Equal(got, want) {
+		t.Errorf("Live told %v, want %v", got, want)
+	}
+	for address := range m.Live() {
+		t.Errorf("Live told %d, which was freed", address)
+	}
+}
+
 func TestFreeRunsTellWhereSoManyFramesAreFree(t *testing.T) {
 	m := filled(t)
 	m.Free(256)

@@ -95,3 +95,14 @@ func (m *Memory) blocksOf(i int) iter.Seq[block] {
 		}
 	}
 }
+
+// Live tells each block's address and size. What is told is copied when a ranging begins, so that it does not see what is taken and freed meanwhile.
+func (m *Memory) Live() iter.Seq2[int, int] {
+	return func(yield func(int, int) bool) {
+		for _, b := range slices.Collect(m.blocks()) {
+			if !yield(b.address, b.size) {
+				return
+			}
+		}
+	}
+}

@@ -269,6 +269,39 @@ func (m *model) sameStats(x *Tithe) string {
 	return ""
 }
 
+// live: an address and a size of each block.
+func (m *model) live() []int {
+	var list []int
+	for _, a := range slices.Sorted(maps.Keys(m.sizes)) {
+		list = append(list, a, m.sizes[a])
+	}
+	return list
+}
+
+// sameLive tells whether the program tells the model's blocks, by their addresses.
+func (m *model) sameLive(x *Tithe) string {
+	if got, want := told(x.Live()), m.live(); !slices.Equal(got, want) {
+		return fmt.Sprintf("Live told %v, want %v", got, want)
+	}
+	return ""
+}
+
+// meanwhile takes a step at each block that is told: the blocks of before are told still.
+func meanwhile(r *rand.Rand, x *Tithe, m *model) string {
+	var got []int
+	want := m.live()
+	for a, size := range x.Live() {
+		got = append(got, a, size)
+		if wrong := step(r, x, m); wrong != "" {
+			return wrong
+		}
+	}
+	if !slices.Equal(got, want) {
+		return fmt.Sprintf("with steps meanwhile, Live told %v, want %v", got, want)
+	}
+	return ""
+}
+
 // bounds tells which of what follows from the promises (P9) does not hold.
 func (m *model) bounds() string {
 	for class := range api.Classes {
@@ -309,7 +342,7 @@ func (m *model) sameBytes(x *Tithe) string {
 	return ""
 }
 
-// TestAgainstTheModel: P3 to P7, and P9, under long rows of calls, of every config; the rows are the same each time.
+// TestAgainstTheModel: P3 to P9, under long rows of calls, of every config; the rows are the same each time.
 func TestAgainstTheModel(t *testing.T) {
 	for heaps := 1; heaps <= api.MaxHeaps; heaps++ {
 		for frames := 1; frames <= api.MaxFrames; frames++ {
@@ -323,8 +356,14 @@ func TestAgainstTheModel(t *testing.T) {
 				r := rand.New(rand.NewSource(int64(heaps*1000 + frames*10 + slack)))
 				for i := range 600 {
 					wrong := step(r, x, m)
+					if wrong == "" && i%50 == 0 {
+						wrong = meanwhile(r, x, m)
+					}
 					if wrong == "" {
 						wrong = m.sameStats(x)
+					}
+					if wrong == "" {
+						wrong = m.sameLive(x)
 					}
 					if wrong == "" {
 						wrong = m.bounds()

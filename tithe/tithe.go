@@ -73,7 +73,7 @@ func (t *Tithe) FreeFrames() int { return t.inside().FreeFrames() }
 
 // Live tells all blocks (P8).
 func (t *Tithe) Live() func(yield func(address int, size int) bool) {
-	return func(yield func(address int, size int) bool) {}
+	return t.inside().Live()
 }
 
 // inside stands in a memory without frames where New gave nil: a call on that answers as well.

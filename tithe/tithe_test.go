@@ -2,6 +2,7 @@ package tithe
 
 import (
 	"math"
+	"slices"
 	"testing"
 
 	"tithe/api"
@@ -83,6 +84,22 @@ func (d desk) hasFree(frames int) {
 	d.t.Helper()
 	if n := d.FreeFrames(); n != frames {
 		d.t.Fatalf("FreeFrames() = %d, want %d", n, frames)
+	}
+}
+
+// told: an address and a size of each block.
+func told(each func(yield func(address, size int) bool)) []int {
+	var list []int
+	for a, size := range each {
+		list = append(list, a, size)
+	}
+	return list
+}
+
+func (d desk) tells(want ...int) {
+	d.t.Helper()
+	if got := told(d.Live()); !slices.Equal(got, want) {
+		d.t.Fatalf("Live told %v, want %v", got, want)
 	}
 }
 
@@ -651,6 +668,177 @@ func TestP7FreeFramesCountsWhatIsNeitherSuperblockNorLarge(t *testing.T) {
 	d.hasFree(7)
 }
 
+// mixed: a small block of each class, large ones, and gaps between.
+func mixed(t *testing.T) desk {
+	t.Helper()
+	d := open(t, 2, 10, 1)
+	d.gives(0, 256, 0)
+	d.gives(0, 1, 256, 264, 272)
+	d.gives(1, 64, 320)
+	d.gives(1, 30, 384, 416)
+	d.gives(0, 9, 448)
+	d.gives(1, 8, 512)
+	d.frees(0, 264, 384)
+	d.gives(0, 65, 0)
+	return d
+}
+
+func mixedBlocks() []int {
+	return []int{0, 65, 256, 1, 272, 1, 320, 64, 416, 30, 448, 9, 512, 8}
+}
+
+func TestP8LiveTellsTheBlocksByTheirAddresses(t *testing.T) {
+	open(t, 1, 1, 1).tells()
+	d := mixed(t)
+	d.tells(mixedBlocks()...)
+	d.refuses(0, 257, api.ErrArg)
+	d.refuses(0, 256, api.ErrFull)
+	d.freesNot(1, 64, 384)
+	d.tells(mixedBlocks()...) // what was refused is no block
+	d.frees(512, 0, 320, 256, 448, 272, 416)
+	d.tells()
+}
+
+func TestP8TheSizeIsWhatWasAskedFor(t *testing.T) {
+	for size := 1; size <= api.MaxSize; size++ {
+		d := open(t, 1, 5, 1)
+		d.gives(0, size, 0)
+		d.tells(0, size)
+		d.frees(0)
+		d.tells()
+	}
+}
+
+func TestP8AllThatFitsIsTold(t *testing.T) {
+	d := open(t, 4, 16, 1)
+	var want []int
+	for a := 0; a < 16*64; a += 8 {
+		d.gives(3, 7, a)
+		want = append(want, a, 7)
+	}
+	d.tells(want...)
+}
+
+func TestP8ABlockOfHeap0IsToldToo(t *testing.T) {
+	d := open(t, 2, 2, 1)
+	d.gives(0, 16, 0, 16, 32, 48, 64, 80, 96, 112)
+	d.frees(16, 32, 48, 80, 96) // frame 0 goes to heap 0
+	d.holds(0, 1, 64, 16)
+	d.tells(0, 16, 64, 16, 112, 16)
+}
+
+func TestP8LiveMayBeLeft(t *testing.T) {
+	d := mixed(t)
+	want := mixedBlocks()
+	for most := 1; most <= len(want)/2; most++ {
+		var got []int
+		for a, size := range d.Live() {
+			got = append(got, a, size)
+			if len(got) == 2*most {
+				break
+			}
+		}
+		if !slices.Equal(got, want[:2*most]) {
+			t.Errorf("left at %d, Live told %v, want %v", most, got, want[:2*most])
+		}
+	}
+	calls := 0
+	d.Live()(func(int, int) bool { calls++; return false })
+	if calls != 1 {
+		t.Errorf("Live told %d blocks to one who left at the first", calls)
+	}
+}
+
+func TestP8LiveCanBeRangedOverAgain(t *testing.T) {
+	d := mixed(t)
+	each := d.Live()
+	for range each {
+		break
+	}
+	for range 2 {
+		if got := told(each); !slices.Equal(got, mixedBlocks()) {
+			t.Errorf("again, Live told %v", got)
+		}
+	}
+	for a := range each {
+		if got := told(each); !slices.Equal(got, mixedBlocks()) {
+			t.Errorf("within the ranging at %d, Live told %v", a, got)
+		}
+	}
+}
+
+func TestP8LiveLooksWhenItIsRangedOver(t *testing.T) {
+	d := open(t, 1, 4, 1)
+	each := d.Live() // there is no block yet
+	for _, want := range [][]int{{0, 8}, {0, 8, 8, 8}, {0, 8, 8, 8, 16, 8}} {
+		d.gives(0, 8, want[len(want)-2])
+		if got := told(each); !slices.Equal(got, want) {
+			t.Errorf("Live told %v, want %v", got, want)
+		}
+	}
+	d.frees(0)
+	d.gives(0, 100, 64)
+	if got, want := told(each), []int{8, 8, 16, 8, 64, 100}; !slices.Equal(got, want) {
+		t.Errorf("Live told %v, want %v", got, want)
+	}
+}
+
+func TestP8WhatIsFreedMeanwhileIsToldStill(t *testing.T) {
+	d := mixed(t)
+	var got []int
+	for a, size := range d.Live() {
+		if len(got) == 0 {
+			d.frees(512, 0, 320, 256, 448, 272, 416) // all, at the first
+		}
+		got = append(got, a, size)
+	}
+	if !slices.Equal(got, mixedBlocks()) {
+		t.Errorf("Live told %v, want %v", got, mixedBlocks())
+	}
+	d.tells()
+}
+
+func TestP8WhatIsGivenMeanwhileIsNotTold(t *testing.T) {
+	d := open(t, 1, 4, 1)
+	d.gives(0, 8, 0, 8, 16)
+	d.frees(8)
+	var got []int
+	for a, size := range d.Live() {
+		if len(got) == 0 {
+			d.gives(0, 8, 8, 24) // between, and behind
+			d.gives(0, 100, 64)
+			d.frees(16)
+			d.gives(0, 3, 16) // the same address, another size
+		}
+		got = append(got, a, size)
+	}
+	if want := []int{0, 8, 16, 8}; !slices.Equal(got, want) {
+		t.Errorf("Live told %v, want %v", got, want)
+	}
+	d.tells(0, 8, 8, 8, 16, 3, 24, 8, 64, 100)
+}
+
+func TestP8EachRangingSeesItsOwnTime(t *testing.T) {
+	d := open(t, 1, 1, 1)
+	d.gives(0, 8, 0, 8)
+	each := d.Live()
+	var outer []int
+	for a, size := range each {
+		outer = append(outer, a, size)
+		d.frees(a)
+		want := []int{8, 8} // behind the first one
+		if a == 8 {
+			want = nil
+		}
+		if inner := told(each); !slices.Equal(inner, want) {
+			t.Errorf("with %d freed, Live told %v, want %v", a, inner, want)
+		}
+	}
+	if want := []int{0, 8, 8, 8}; !slices.Equal(outer, want) {
+		t.Errorf("the outer ranging told %v, want %v", outer, want)
+	}
+}
+
 func TestP2WhatTellsChangesNothing(t *testing.T) {
 	d := open(t, 1, 4, 1)
 	d.gives(0, 8, 0)
@@ -663,6 +851,7 @@ func TestP2WhatTellsChangesNothing(t *testing.T) {
 		d.loads(64, 5, api.OK)
 		d.loads(0, 0, api.OK)
 		d.loads(8, 0, api.ErrFault)
+		d.tells(0, 8, 64, 100)
 	}
 	d.gives(0, 8, 8)
 	d.gives(0, 33, 192)
@@ -683,6 +872,7 @@ func TestP1AnErrorChangesNothing(t *testing.T) {
 		d.hasFree(2)
 		d.holds(1, 0, 64, 8)
 		d.loads(0, 7, api.OK)
+		d.tells(0, 33, 64, 8)
 	}
 	d.gives(0, 128, 128)
 }
@@ -700,6 +890,8 @@ func TestP2TithesAreApart(t *testing.T) {
 	d.hasFree(0)
 	d.holds(1, 0, 64, 8)
 	other.holds(1, 0, 64, 0)
+	d.tells(0, 8)
+	other.tells()
 }
 
 func TestP1ATitheThatIsNoneAnswersToo(t *testing.T) {
@@ -717,6 +909,7 @@ func TestP1ATitheThatIsNoneAnswersToo(t *testing.T) {
 	d.refuses(0, 256, api.ErrFull)
 	d.holds(0, 0, 0, 0)
 	d.hasFree(0)
+	d.tells()
 	if s, e := none.Stats(-1, 0); s != (api.Stats{}) || e != api.ErrArg {
 		t.Errorf("Stats(-1, 0) of none = %+v, %d, want ErrArg", s, e)
 	}
